@@ -44,15 +44,16 @@ func (p *plain) add(data string) (int, api.Errno) {
 	if len(data) > 65536-12 {
 		return 0, api.ErrSize
 	}
-	if p.segment == 0 || p.size(p.segment) >= 4096 {
+	segment := p.segment
+	if segment == 0 || p.size(segment) >= 4096 {
 		if !p.synced {
-			p.call("Sync ", p.segment%10)
+			p.call("Sync ", segment%10)
 		}
 		p.synced = true
-		p.segment++
+		segment++
 	}
-	write := fmt.Sprint("Write ", p.segment%10, " ", 20+len(data))
-	_, there := p.segments[p.segment]
+	write := fmt.Sprint("Write ", segment%10, " ", 20+len(data))
+	there := segment == p.segment
 	if p.used()+20+len(data) > p.room || !there && len(p.segments) == 64 {
 		p.call(write, "!12")
 		return 0, api.ErrFull
@@ -62,6 +63,7 @@ func (p *plain) add(data string) (int, api.Errno) {
 		p.settled = false
 	}
 	p.last++
+	p.segment = segment
 	p.segments[p.segment] = append(p.segments[p.segment], api.Record{Seq: p.last, Data: data})
 	p.synced = false
 	return p.last, api.OK

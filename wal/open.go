@@ -60,7 +60,7 @@ func (l *Log) load() ([]api.Record, bool) {
 	records := []api.Record{}
 	torn := false
 	for i, number := range numbers {
-		check(i == 0 || number == l.number+1)
+		check(i == 0 || number == numbers[i-1]+1)
 		check(!torn)
 		data, e := l.disk.Read(Name(number))
 		must(e)
@@ -71,7 +71,6 @@ func (l *Log) load() ([]api.Record, bool) {
 			s.last = records[len(records)-1].Seq
 		}
 		torn = l.size < len(data)
-		l.number = number
 		l.files = append(l.files, s)
 	}
 	return records, torn
@@ -79,13 +78,14 @@ func (l *Log) load() ([]api.Record, bool) {
 
 // mend cuts the last segment where its last record ends, and makes all firm.
 func (l *Log) mend(torn bool) {
-	if l.number == 0 {
+	if len(l.files) == 0 {
 		return
 	}
+	name := Name(l.number())
 	if torn {
-		must(l.disk.Cut(Name(l.number), l.size))
+		must(l.disk.Cut(name, l.size))
 	}
-	must(l.disk.Sync(Name(l.number)))
+	must(l.disk.Sync(name))
 	must(l.disk.Settle())
 }
 

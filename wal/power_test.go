@@ -70,6 +70,33 @@ func (h *history) play() {
 	h.add(9)
 }
 
+// the same of a disk that has no room where new segments would begin
+func (h *history) playFull() {
+	h.add(3)
+	h.add(5000)
+	h.full()
+	h.sync()
+	h.full()
+	h.add(6000)
+	h.full()
+	h.sync()
+	h.full()
+	h.add(8)
+	h.full()
+	h.sync()
+	h.trim(h.l.Firm())
+	h.add(9)
+}
+
+// there is no room: if the last segment is full, no new one begins
+func (h *history) full() {
+	room := h.d.Room()
+	h.d.Limit(h.d.Used())
+	h.add(1)
+	h.trim(h.l.Firm())
+	h.d.Limit(room)
+}
+
 // opens the log and holds what it tells against what was done
 func (h *history) open(t *testing.T, what string, from int) {
 	t.Helper()
@@ -111,53 +138,74 @@ func begun(t *testing.T) *history {
 	return h
 }
 
+// a story is what is done, and up to which record all is firm and trimmed behind it
+type story struct {
+	name string
+	play func(h *history)
+	firm int
+}
+
+func stories() []story {
+	return []story{{"room", (*history).play, 8}, {"no room", (*history).playFull, 4}}
+}
+
 // The power goes in each step; behind it the log is opened from each number that may be, and goes on.
 func TestP56Power(t *testing.T) {
-	all := begun(t)
-	before := all.d.Steps()
-	all.play()
-	if all.l.Broken() || all.firm != 8 || all.trimmed != 8 {
-		t.Fatal("the play", all.firm, all.trimmed, all.l.Broken())
+	for _, s := range stories() {
+		all := begun(t)
+		before := all.d.Steps()
+		s.play(all)
+		if all.l.Broken() || all.firm != s.firm || all.trimmed != s.firm {
+			t.Fatal("the play", s.name, all.firm, all.trimmed, all.l.Broken())
+		}
+		steps := all.d.Steps() - before
+		for arm := range steps + 1 {
+			h := begun(t)
+			h.d.Arm(arm)
+			s.play(h)
+			is(t, "broken", h.l.Broken(), arm < steps)
+			h.everyCrash(t, fmt.Sprint(s.name, ", step ", arm))
+		}
 	}
-	steps := all.d.Steps() - before
-	for arm := range steps + 1 {
-		h := begun(t)
-		h.d.Arm(arm)
-		h.play()
-		is(t, "broken", h.l.Broken(), arm < steps)
-		for _, picks := range somePicks() {
-			what := fmt.Sprint("step ", arm, " ", picks)
-			for from := h.trimmed; from <= h.firm; from++ {
-				c := h.copy()
-				c.d.Crash(picks)
-				c.open(t, what, from)
-			}
+}
+
+// the disk crashes in many ways, each time ahead of another life
+func (h *history) everyCrash(t *testing.T, step string) {
+	t.Helper()
+	for _, picks := range somePicks() {
+		what := fmt.Sprint(step, " ", picks)
+		for from := h.trimmed; from <= h.firm; from++ {
 			c := h.copy()
 			c.d.Crash(picks)
-			c.open(t, what, h.trimmed)
-			c.add(50)
-			c.sync()
-			c.add(5)
-			c.d.Crash(picks)
-			c.open(t, what+" and again", h.trimmed)
+			c.open(t, what, from)
 		}
+		c := h.copy()
+		c.d.Crash(picks)
+		c.open(t, what, h.trimmed)
+		c.add(50)
+		c.sync()
+		c.add(5)
+		c.d.Crash(picks)
+		c.open(t, what+" and again", h.trimmed)
 	}
 }
 
 // The power goes in each step of Open, too.
 func TestP56PowerInOpen(t *testing.T) {
-	for arm := range 22 {
-		h := begun(t)
-		h.d.Arm(arm)
-		h.play()
-		for _, picks := range somePicks() {
-			for again := range 3 {
-				c := h.copy()
-				c.d.Crash(picks)
-				c.d.Arm(again)
-				Open(c.d, c.trimmed)
-				c.d.Crash(picks)
-				c.open(t, fmt.Sprint("steps ", arm, " ", again, " ", picks), c.trimmed)
+	for _, s := range stories() {
+		for arm := range 22 {
+			h := begun(t)
+			h.d.Arm(arm)
+			s.play(h)
+			for _, picks := range somePicks() {
+				for again := range 3 {
+					c := h.copy()
+					c.d.Crash(picks)
+					c.d.Arm(again)
+					Open(c.d, c.trimmed)
+					c.d.Crash(picks)
+					c.open(t, fmt.Sprint(s.name, ", steps ", arm, " ", again, " ", picks), c.trimmed)
+				}
 			}
 		}
 	}

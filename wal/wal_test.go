@@ -271,7 +271,7 @@ func TestP52Others(t *testing.T) {
 		put(d, name, "nothing of it")
 	}
 	l, n := open(t, d, 0)
-	is(t, "passed over", line(l.Last(), l.number), "1 5")
+	is(t, "passed over", line(l.Last(), l.number()), "1 5")
 	l.Append("b")
 	is(t, "goes on behind it", n.since(), "Write 5 21")
 	is(t, "Trim", line(int(l.Sync()), int(l.Trim(2)), n.since()), "0 0 Sync 5")
@@ -400,11 +400,11 @@ func TestP53TooLong(t *testing.T) {
 	d := disk.New(api.MaxDisk)
 	l, n := open(t, d, 0)
 	is(t, "too long", num(l.Append(strings.Repeat("x", 65525))), "23:0")
-	is(t, "nothing", line(n.since(), l.Last(), l.Broken(), l.number), "- 0 false 0")
+	is(t, "nothing", line(n.since(), l.Last(), l.Broken(), l.number()), "- 0 false 0")
 	is(t, "the longest", num(l.Append(strings.Repeat("x", 65524))), "0:1")
 	is(t, "calls", n.since(), "Write 1 65544")
 	is(t, "too long for a new one", num(l.Append(strings.Repeat("x", 65525))), "23:0")
-	is(t, "nothing", line(n.since(), l.Last(), l.Broken(), l.number), "- 1 false 1")
+	is(t, "nothing", line(n.since(), l.Last(), l.Broken(), l.number()), "- 1 false 1")
 }
 
 func TestP53Full(t *testing.T) {
@@ -485,18 +485,66 @@ func TestP53NoRoomForNewOne(t *testing.T) {
 	is(t, "there", strings.Fields(told(Open(d, 0)))[2], "2=d")
 }
 
-// Behind a lack of room the last segment is the one that isn't there yet: so the one ahead may go.
+// A segment without a file is none: behind a lack of room the last one is the full one, and stays.
 func TestP53NoRoomAndTrim(t *testing.T) {
 	d := disk.New(5030)
 	l, n := open(t, d, 0)
 	l.Append(strings.Repeat("x", 5000))
-	l.Append("b")
-	l.Sync()
-	n.since()
-	is(t, "Trim", line(int(l.Trim(1)), n.since(), len(d.List())), "0 Remove 1, Settle 0")
-	is(t, "b", num(l.Append("b")), "0:2")
-	is(t, "Sync", line(int(l.Sync()), n.since()), "0 Write 2 21, Sync 2, Settle")
+	is(t, "no room", num(l.Append("b")), "12:0")
+	is(t, "its name isn't settled", line(int(l.Trim(0)), int(l.Trim(1)), n.since()), "0 1 Write 1 5020, Sync 1, Write 2 21!12")
+	is(t, "Sync", line(int(l.Sync()), n.since()), "0 Settle")
+	is(t, "Trim", line(int(l.Trim(1)), int(l.Trim(1)), n.since(), files(d)), "0 0 - wal-00000001 5020")
+	is(t, "told", line(l.Last(), l.Firm(), l.Broken()), "1 1 false")
+	is(t, "there", told(Open(d.Copy(), 1)), "0 last 1 firm 1")
+	is(t, "no room still", num(l.Append("b")), "12:0")
+	is(t, "Trim again", line(int(l.Trim(1)), n.since()), "0 Write 2 21!12")
+	d.Limit(6000)
+	is(t, "room again", line(num(l.Append("b")), n.since()), "0:2 Write 2 21")
+	is(t, "Trim behind it", line(int(l.Trim(1)), n.since(), files(d)), "0 Remove 1, Settle wal-00000002 21")
+	is(t, "Sync behind it", line(int(l.Sync()), n.since()), "0 Sync 2")
 	is(t, "there", told(Open(d, 1)), "0 2=b last 2 firm 2")
+}
+
+// So it is with segments ahead, with one that Open found, and where there are too many files.
+func TestP54NoRoomAndTrim(t *testing.T) {
+	long := strings.Repeat("x", 5000)
+	d := disk.New(15070)
+	l, n := open(t, d, 0)
+	for range 3 {
+		l.Append(long)
+	}
+	is(t, "no room", line(num(l.Append("y")), int(l.Sync())), "12:0 0")
+	n.since()
+	is(t, "Trim", line(int(l.Trim(3)), n.since()), "0 Remove 1, Remove 2, Settle")
+	is(t, "makes room", line(num(l.Append("y")), n.since()), "0:4 Write 4 21")
+	is(t, "Trim again", line(int(l.Trim(3)), n.since(), files(d)), "0 Remove 3, Settle wal-00000004 21")
+
+	d = with(7, rec(1, long), rec(2, long))
+	l, n = open(t, d, 1)
+	d.Limit(0)
+	is(t, "no room behind Open", line(num(l.Append("y")), n.since()), "12:0 Write 9 21!12")
+	is(t, "Trim behind Open", line(int(l.Trim(2)), n.since(), files(d)), "0 Remove 7, Settle wal-00000008 5020")
+	is(t, "there", told(Open(d, 2)), "0 last 2 firm 2")
+
+	d = with(1, rec(1, long))
+	for i := range api.MaxFiles - 1 {
+		put(d, fmt.Sprint("f", i), "")
+	}
+	l, n = open(t, d, 0)
+	is(t, "too many files", line(num(l.Append("y")), n.since()), "12:0 Write 2 21!12")
+	is(t, "Trim with too many", line(int(l.Trim(1)), n.since()), "0 -")
+	d.Remove("f0")
+	is(t, "one less", line(num(l.Append("y")), int(l.Trim(1)), n.since()), "0:2 0 Write 2 21, Remove 1, Settle")
+}
+
+// Where there is no segment at all, none comes to be without room.
+func TestP54NoRoomAndNoSegment(t *testing.T) {
+	d := disk.New(20)
+	l, n := open(t, d, 3)
+	is(t, "no room", line(num(l.Append("y")), n.since()), "12:0 Write 1 21!12")
+	is(t, "nothing", line(int(l.Sync()), int(l.Trim(3)), l.Last(), l.Firm(), n.since()), "0 0 3 3 -")
+	d.Limit(21)
+	is(t, "room", line(num(l.Append("y")), int(l.Trim(3)), files(d)), "0:4 0 wal-00000001 21")
 }
 
 func TestP53TooManyFiles(t *testing.T) {
