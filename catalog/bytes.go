@@ -74,11 +74,14 @@ func unHead(r *codec.Reader) api.Checkpoint {
 	return c
 }
 
-// lay puts the frame of what a writer laid down behind the others.
+// lay puts the frame of what a writer laid down behind the others. A writer says ErrArg of what is too many for a Count; that is too great for a frame likewise.
 func lay(all *strings.Builder, w *codec.Writer) api.Errno {
 	data, e := framed(w)
+	if e != api.OK {
+		return api.ErrSize
+	}
 	all.WriteString(data)
-	return e
+	return api.OK
 }
 
 // framed is the frame of what a writer laid down.

@@ -9,6 +9,7 @@ import (
 	"testing"
 
 	"caisson/api"
+	"caisson/codec"
 	"caisson/disk"
 )
 
@@ -239,6 +240,20 @@ func TestP81BytesErrors(t *testing.T) {
 		{"a batch of many", api.Checkpoint{Batches: [][]api.Fact{make([]api.Fact, 1<<20)}}, 23},
 	} {
 		is(t, c.what, bytesTold(Bytes(c.c)), fmt.Sprintf(noBytes, c.want))
+	}
+}
+
+// A thing that is too many for a Count is too great for a frame, whatever the writer calls it; a checkpoint that has one takes too much room for a test.
+func TestP81BytesBeyondACount(t *testing.T) {
+	for _, many := range []int{math.MaxUint32 + 1, math.MaxInt} {
+		for _, ahead := range []int{0, 65536 - 8, 65536} {
+			w, all := &codec.Writer{}, strings.Builder{}
+			for range ahead {
+				w.Byte(1)
+			}
+			w.Count(many)
+			is(t, fmt.Sprint("a Count of ", many, " behind ", ahead), line(lay(&all, w), all.Len()), line(api.ErrSize, 0))
+		}
 	}
 }
 
